@@ -108,3 +108,49 @@ def mixed_order(many, seed):
     """An order that looks mixed and is the same at every run."""
     keys = mixed_numbers(many, 10 ** 5, seed)
     return sorted(range(many), key=lambda count: (keys[count], count))
+
+
+def bad_things():
+    """Label and value of what is no things: no list, or one thing or length in it is none."""
+    good = [(3, 2, 4), (1, 5, 2), (0, 0, 0)]
+    bad = no_lists()
+    for label, value in no_things():
+        bad.append((f"{label} as the only thing", [value]))
+        for place in range(len(good)):
+            bad.append((f"{label} as thing {place}", replaced(good, place, value)))
+    for label, value in no_lengths():
+        for part in range(3):
+            bad.append((f"{label} as length {part}", [replaced((1, 1, 1), part, value)]))
+            thing = replaced(good[2], part, value)
+            bad.append((f"{label} as length {part} of the last", replaced(good, 2, thing)))
+    itself = [(1, 2, 3)]
+    itself.append(itself)
+    return bad + [("things that hold themselves", itself)]
+
+
+def no_times():
+    """Label and value of what is no whole number, to stand as a time."""
+    return odd_values() + [
+        ("the empty list", []), ("a number in a list", [1]), ("things", [(1, 2, 3)]),
+        ("the empty tuple", ()), ("a number in a tuple", (1,)), ("a triple", (1, 2, 3)),
+        ("figures", "7"), ("no figures", "-"),
+    ]
+
+
+def shaped_things(many, below, seed):
+    """Label and things of each shape that the order hangs on, the same at every run."""
+    mixed = mixed_things(many, below, seed)
+    return [
+        ("mixed", mixed),
+        ("alike", mixed[:1] * many),
+        ("without drying", [(first, 0, second) for first, _, second in mixed]),
+        ("drying alone", [(0, drying, 0) for _, drying, _ in mixed]),
+        ("not made on bench 1", [(0, drying, second) for _, drying, second in mixed]),
+        ("not made on bench 2", [(first, drying, 0) for first, drying, _ in mixed]),
+        ("longer on bench 1", [(one + two + 1, drying, two) for one, drying, two in mixed]),
+        ("longer on bench 2", [(one, drying, one + two + 1) for one, drying, two in mixed]),
+        ("as long on both", [(first, drying, first) for first, drying, _ in mixed]),
+        ("drying far longer", [(one, drying * below * many, two) for one, drying, two in mixed]),
+        ("drying far longer by the same", [(one, below * many, two) for one, _, two in mixed]),
+        ("of no length", [(0, 0, 0)] * many),
+    ]

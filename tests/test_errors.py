@@ -1,22 +1,10 @@
-"""The errors of the interface, and where each name of it is defined."""
+"""The errors of the interface."""
 
-import ast
-import inspect
 import unittest
-from pathlib import Path
 
-import benchpair.errors
-import benchpair.things
 from benchpair.errors import BadOrder, BadText, BadThings, BadTime, BenchError
 
-PACKAGE = Path(benchpair.errors.__file__).parent
 REFUSALS = (BadThings, BadOrder, BadTime, BadText)
-
-
-def defined_names(file_name, kind):
-    """The names that a file of the package defines by class or def, at module level."""
-    tree = ast.parse((PACKAGE / file_name).read_text(encoding="utf-8"))
-    return [node.name for node in tree.body if isinstance(node, kind)]
 
 
 class ErrorsTest(unittest.TestCase):
@@ -45,31 +33,6 @@ class ErrorsTest(unittest.TestCase):
                     raise error("refused")
                 self.assertIs(type(caught.exception), error)
                 self.assertEqual(str(caught.exception), "refused")
-
-
-class PlacesTest(unittest.TestCase):
-    def test_errors_are_defined_in_their_file(self):
-        names = defined_names("errors.py", ast.ClassDef)
-        for name in ("BenchError", "BadThings", "BadOrder", "BadTime", "BadText"):
-            with self.subTest(name=name):
-                self.assertEqual(names.count(name), 1)
-                self.assertEqual(getattr(benchpair.errors, name).__module__, "benchpair.errors")
-
-    def test_functions_are_defined_in_their_file(self):
-        names = defined_names("things.py", ast.FunctionDef)
-        for name in ("done", "starts"):
-            with self.subTest(name=name):
-                self.assertEqual(names.count(name), 1)
-                self.assertEqual(getattr(benchpair.things, name).__module__, "benchpair.things")
-
-    def test_functions_take_the_listed_arguments(self):
-        for name in ("done", "starts"):
-            with self.subTest(name=name):
-                told = inspect.signature(getattr(benchpair.things, name))
-                self.assertEqual(list(told.parameters), ["things", "order"])
-                for parameter in told.parameters.values():
-                    self.assertIs(parameter.kind, inspect.Parameter.POSITIONAL_OR_KEYWORD)
-                    self.assertIs(parameter.default, inspect.Parameter.empty)
 
 
 if __name__ == "__main__":

@@ -1,6 +1,7 @@
 """The rules of the language that can be seen from the files of the package alone."""
 
 import ast
+import builtins
 import unittest
 import warnings
 from pathlib import Path
@@ -13,6 +14,18 @@ LIBRARY = {"heapq", "math", "itertools", "collections"}
 ENTRIES = [path for path in sorted(PACKAGE.rglob("*")) if "__pycache__" not in path.parts]
 FILES = [path for path in ENTRIES if path.suffix == ".py"]
 BARRED = (ast.AsyncFunctionDef, ast.Await, ast.Global, ast.Import)
+MODULE_ROWS = (ast.ImportFrom, ast.FunctionDef, ast.ClassDef, ast.Assign)
+BUILTINS = set("""
+    len range enumerate zip min max sum abs sorted reversed int str bool bytes list tuple dict set
+    isinstance ord repr any all divmod pow map iter next ValueError TypeError KeyError IndexError
+    Exception LookupError ZeroDivisionError
+""".split())
+METHODS = set("""
+    append clear copy count endswith extend find get index insert isalnum isalpha isdigit islower
+    isspace isupper items join keys ljust lower lstrip partition pop remove replace reverse rfind
+    rjust rpartition rsplit rstrip setdefault split splitlines startswith strip update upper values
+    zfill bit_length
+""".split())
 
 
 def source(path):
@@ -68,6 +81,32 @@ class LanguageTest(unittest.TestCase):
                     self.assertNotIsInstance(node, BARRED + (ast.Div,))
                     if isinstance(node, ast.Constant):
                         self.assertNotIsInstance(node.value, (float, complex))
+
+    def test_module_level_holds_plain_rows(self):
+        for path in FILES:
+            for row in ast.parse(source(path)).body:
+                with self.subTest(path=str(path), line=row.lineno):
+                    if isinstance(row, ast.Expr):
+                        self.assertIsInstance(row.value.value, str)
+                    else:
+                        self.assertIsInstance(row, MODULE_ROWS)
+
+    def test_builtins_are_those_of_the_language(self):
+        for path in FILES:
+            for node in nodes(path):
+                if isinstance(node, ast.Name) and hasattr(builtins, node.id):
+                    with self.subTest(path=str(path), line=node.lineno):
+                        self.assertIn(node.id, BUILTINS)
+                        self.assertIsInstance(node.ctx, ast.Load)
+
+    def test_methods_called_are_own_or_those_of_the_language(self):
+        found = [node for path in FILES for node in nodes(path)]
+        own = {node.name for node in found if isinstance(node, ast.FunctionDef)}
+        for node in found:
+            if isinstance(node, ast.Call) and isinstance(node.func, ast.Attribute):
+                with self.subTest(method=node.func.attr, line=node.lineno):
+                    self.assertIn(node.func.attr, METHODS | own)
+                    self.assertEqual(node.keywords, [])
 
     def test_python_gives_no_warning(self):
         for path in FILES:

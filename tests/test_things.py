@@ -5,6 +5,7 @@ from copy import deepcopy
 from itertools import permutations, product
 
 from benchpair.things import done, starts
+from tests.oracles import closed_form, turned, without
 from tests.samples import mixed_order, mixed_things
 
 THREE = [(3, 2, 4), (1, 5, 2), (2, 0, 3)]
@@ -54,35 +55,6 @@ BY_HAND = [
         [(0, 2 * LARGE + 3), (LARGE + 1, 3 * LARGE + 6)], 3 * LARGE + 7,
     ),
 ]
-
-
-def closed_form(things, order):
-    """Tell starts and end without going step by step: the latest of what each is held up by."""
-    begins = {}
-    ends = [0]
-    for place, count in enumerate(order):
-        ahead = [things[other] for other in order[:place]]
-        begin_first = sum(thing[0] for thing in ahead)
-        held = []
-        for holder in range(place + 1):
-            made = sum(things[other][0] for other in order[:holder + 1])
-            between = sum(things[other][2] for other in order[holder:place])
-            held.append(made + things[order[holder]][1] + between)
-        begins[count] = (begin_first, max(held))
-        ends.append(max(held) + things[count][2])
-    return [begins[count] for count in range(len(things))], ends[-1]
-
-
-def turned(things):
-    """The same things with the benches exchanged."""
-    return [(second, drying, first) for first, drying, second in things]
-
-
-def without(things, order, left_out):
-    """The things and the order without one thing, the counts above it one less."""
-    fewer = things[:left_out] + things[left_out + 1:]
-    rest = [count - (count > left_out) for count in order if count != left_out]
-    return fewer, rest
 
 
 def small_cases():
